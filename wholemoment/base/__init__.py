@@ -1,0 +1,1 @@
+"""Whole numbers, plain values and their texts."""

@@ -1,0 +1,1 @@
+"""What a cache keeps, and the moments at which it stood."""

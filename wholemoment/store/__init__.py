@@ -1,0 +1,1 @@
+"""What the store keeps, and what is asked of it."""

@@ -1,0 +1,1 @@
+"""Clocks that run unlike."""
