@@ -3,6 +3,7 @@
 import unittest
 
 from helpers import ODD, assert_raises, is_doubled, is_int, mutants
+from lent_calls import LENT_CALLS, LENT_JUDGES, LENT_METHODS, LENT_THINGS
 from wholemoment import errors
 from wholemoment.base import texts
 from wholemoment.cache import copies, moments
@@ -160,11 +161,12 @@ CALLS = (
     (moments.refusal_paper, COPIES, INSTANT, number(1, 0, 10 ** 6), FLOOR),
     (moments.is_refusal_paper, COPIES, INSTANT, number(1, 0, 10 ** 6), FLOOR, ANY),
     (moments.joined_floor, INSTANT, FLOOR), (moments.is_in_stretch, INSTANT, FLOOR, INSTANT),
-)
+) + LENT_CALLS
 JUDGES = (
     texts.is_plain, deeds.is_key, deeds.is_value, deeds.is_pairs, deeds.is_deed, deeds.is_page, questions.is_question,
     questions.is_straight, copies.is_instant,
-)
+) + LENT_JUDGES
+THINGS = (HISTORY, COPY, SHELF) + LENT_THINGS
 
 
 def wrong_values(parameter):
@@ -228,7 +230,7 @@ class ArgumentsTest(unittest.TestCase):
             for value in ODD:
                 self.assertIs(type(judge(value)), bool, (judge, value))
         for call, *parameters in CALLS:
-            if parameters[-1] is ANY:
+            if parameters and parameters[-1][1] is None:
                 arguments = [parameter[0] for parameter in parameters[:-1]]
                 for value in ODD:
                     self.assertIs(type(call(*arguments, value)), bool, (call, value))
@@ -248,13 +250,13 @@ class ArgumentsTest(unittest.TestCase):
 
 class ObjectsTest(unittest.TestCase):
     def test_equality_takes_every_value(self):
-        for thing in (HISTORY, COPY, SHELF):
-            for value in ODD + [HISTORY, COPY, SHELF]:
+        for thing in THINGS:
+            for value in ODD + list(THINGS):
                 self.assertIs(thing == value, thing is value)
                 self.assertIs(thing != value, thing is not value)
 
     def test_objects_are_not_iterated_over(self):
-        for thing in (HISTORY, COPY, SHELF):
+        for thing in THINGS:
             with self.assertRaises(TypeError):
                 iter(thing)
 
@@ -263,6 +265,7 @@ class ObjectsTest(unittest.TestCase):
             deeds.History: ("at", "value_at", "stretch", "moments_with", "with_deed", "__len__", "__eq__", "__str__"),
             copies.Copy: ("is_true", "does_cover", "ended", "__eq__", "__str__"),
             copies.Shelf: ("kept", "true_keys", "granted", "ended", "__len__", "__contains__", "__eq__"),
+            **LENT_METHODS,
         }
         for kind, names in told.items():
             for name in names:

@@ -1,5 +1,6 @@
 """Keys, values, pairs, deeds, pages, and the history of deeds."""
 
+from wholemoment.base.tables import ascending
 from wholemoment.base.wholes import is_within, need_number
 from wholemoment.errors import InvalidDeed, InvalidKey, InvalidValue, TooMany
 
@@ -76,11 +77,23 @@ def need_deed(deed):
         raise InvalidDeed("a deed is 1 to 6 pairs of a key and a value or None, keys ascending")
 
 
+def done_on(pairs, deeds):
+    """The pairs behind some deeds, keys ascending, whatever their number is; all were checked before."""
+    state = dict(pairs)
+    for deed in deeds:
+        for key, value in deed:
+            if value is None:
+                state.pop(key, None)
+            else:
+                state[key] = value
+    return ascending(state)
+
+
 def done(pairs, deed):
     """The pairs behind the deed."""
     need_pairs(pairs)
     need_deed(deed)
-    state = _done_on(pairs, (deed,))
+    state = done_on(pairs, (deed,))
     if len(state) > MOST_KEYS:
         raise TooMany(MOST_KEYS)
     return state
@@ -89,7 +102,7 @@ def done(pairs, deed):
 def behind(deeds):
     """The pairs behind some deeds, from no pairs on."""
     _need_deeds(deeds)
-    return _done_on({}, deeds)
+    return done_on({}, deeds)
 
 
 def unlike_keys(one, other):
@@ -129,7 +142,7 @@ class History:
     def at(self, moment):
         """The pairs at a moment."""
         self._need_moment(moment)
-        return _done_on({}, self.deeds[:moment])
+        return done_on({}, self.deeds[:moment])
 
     def value_at(self, moment, key):
         """The value of a key at a moment, or None."""
@@ -190,20 +203,8 @@ def _need_deeds(deeds):
         raise InvalidDeed("deeds are a tuple of at most 1,500 deeds")
 
 
-def _done_on(pairs, deeds):
-    """The pairs behind some deeds, keys ascending."""
-    state = dict(pairs)
-    for deed in deeds:
-        for key, value in deed:
-            if value is None:
-                state.pop(key, None)
-            else:
-                state[key] = value
-    return {key: state[key] for key in sorted(state)}
-
-
 def _key_count(deeds):
-    return len(_done_on({}, deeds))
+    return len(done_on({}, deeds))
 
 
 def _values(deeds, key):

@@ -1,0 +1,1 @@
+"""The disk of the origin, and its log."""

@@ -1,0 +1,1 @@
+"""What a cache can know of the store."""

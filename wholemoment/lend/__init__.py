@@ -1,0 +1,1 @@
+"""Setups, books of what is lent, the origin and the caches."""
