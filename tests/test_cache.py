@@ -93,6 +93,12 @@ class CacheTest(unittest.TestCase):
         for value in ODD:
             self.assertIs(cache == value, False)
 
+    def test_one_part_alone_makes_unlike(self):
+        for since in (None, 5):
+            one, other = [run(Cache(S, 1, since=since), (recall(key), 6)) for key in "ab"]
+            self.assertEqual(cache_parts(one)[:4], cache_parts(other)[:4])
+            self.assertNotEqual(one, other)
+
 
 class LetterTest(unittest.TestCase):
     """[13.3] to [13.5]."""

@@ -83,7 +83,7 @@ class DiskTest(unittest.TestCase):
         self.assertEqual((empty.sure, empty.waiting, empty.blocks, len(empty), empty.fall_number), ((), (), (), 0, 1))
         self.assertEqual(str(empty), "disk of 0 blocks, 0 waiting")
         self.assertEqual(D, Disk(("ab",), ("cde", "f", "cd")))
-        for other in (Disk(("ab", "cde"), ("f", "cd")), Disk(("ab",), ("cde", "cd", "f")), Disk(), D.synced(), D.put("x")):
+        for other in (Disk(("b",), ("cde", "f", "cd")), Disk(("ab", "cde"), ("f", "cd")), Disk(("ab",), ("cde", "cd", "f")), Disk(), D.synced(), D.put("x")):
             self.assertNotEqual(D, other)
         for sure, waiting in (([], ()), ((), []), (("",), ()), ((), ("",)), (("a", 1), ()), ((), ("x" * 1001,)), (None, ()), ("a", ())):
             assert_raises(self, InvalidDisk, None, Disk, sure, waiting)

@@ -92,7 +92,7 @@ class RecordTest(unittest.TestCase):
                 self.assertIsNone(record_in(block + more))
                 self.assertEqual(uses((block + more,)), ("strange",))
         # Sealed texts of plain values that are no records.
-        for value in (None, 7, ("lend", -1), ("deed", 0, 0, (("a", 1),)), ("lend", "a")):
+        for value in (None, 7, "torn", ("lend", -1), ("deed", 0, 0, (("a", 1),)), ("lend", "a")):
             self.assertIsNone(record_in(sealed(value)))
             self.assertEqual(uses((sealed(value), sealed(value)[:-1])), ("strange", "torn"))
         for block in ("", "x" * 1001, None, "\n", 5):
@@ -238,6 +238,12 @@ class FallTest(unittest.TestCase):
                 told = ((ONE,) if first == len(BLOCKS[1]) else ()) + ((TWO,) if last == len(BLOCKS[2]) else ())
                 self.assertEqual(kept.records, told)
                 self.assertIs(can_be_read(disk, kept), True)
+
+    def test_blocks_that_go_on(self):
+        # Of a block that waits the first record alone can stay, whatever stands behind it.
+        disk = Disk((), (BLOCKS[1] + BLOCKS[2],))
+        for blocks, right in (((), True), (BLOCKS[1:2], True), (BLOCKS[2:3], False), (BLOCKS[1:3], False)):
+            self.assertIs(can_be_read(disk, Kept(blocks)), right)
 
     def test_values_that_cannot_be_read(self):
         disk = Disk(BLOCKS[1:2], (block_of(("lend", 7)), BLOCKS[2], block_of(("lend", 9))))

@@ -185,6 +185,14 @@ class OriginTest(unittest.TestCase):
         for value in ODD:
             self.assertIs(origin == value, False)
 
+    def test_one_part_alone_makes_unlike(self):
+        lent = run(Origin(S), (ask(1, "a", 0), 0)).synced()[0]
+        self.assertNotEqual(lent, lent.heard(deed(0, 1, "a"), 0).synced()[0])
+        self.assertNotEqual(lent, run(Origin(S), (ask(1, "a", 1), 0)).synced()[0])
+        held = run(Origin(S, without="held"), (ask(1, "a", 0), 0))
+        self.assertNotEqual(held.sent()[0], held.synced()[0])
+        self.assertNotEqual(held.sent()[0], held)
+
 
 class ErrorTest(unittest.TestCase):
     def test_letters(self):

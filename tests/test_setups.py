@@ -134,7 +134,7 @@ class BookTest(unittest.TestCase):
 
     def test_wrong_books(self):
         for value in ODD + list(mutants({(1, "a"): (5, 7)})) + [{(1, "a"): [5, 7]}, {(7, "a"): (5, 7)}, {(0, "a"): (5, 7)},
-                                                               {(True, "a"): (5, 7)}, {(1, "a"): (5, -1)}, {(1, "a"): (5,)}]:
+                                                               {(True, "a"): (5, 7)}, {(1, "a"): (5, -1)}, {(1, "a"): (5,)}, {(1, "a"): (-1, 5)}]:
             if value is None or is_told_lent(value):
                 self.assertEqual(Book(value).lent, value or {})
             else:
@@ -176,6 +176,11 @@ class BookTest(unittest.TestCase):
             self.assertFalse(any(book.holders(key, reading) for key in keys for reading in range(free, 20)))
             if free > 0:
                 self.assertTrue(any(book.holders(key, free - 1) for key in keys))
+
+    def test_many_keys_ascend(self):
+        book = Book({(1 + index % 3, "k" + letter): (0, index) for index, letter in enumerate("hgfedcba")})
+        self.assertEqual(book.held_keys(2), ("ka", "kb", "kc", "kd", "ke", "kf"))
+        self.assertEqual(list(book.lent), sorted(book.lent))
 
     def test_the_sequence_of_grants_does_not_matter(self):
         grants = [(1, "a", 5, 9), (1, "a", 7, 8), (1, "a", 6, 6), (2, "a", 1, 1)]

@@ -96,7 +96,8 @@ class WorldTest(unittest.TestCase):
         self.assertIs(is_world(VIEW, (beats, grants, ((9, (((0, 0), 5),)),))), True)
         self.assertIs(is_world(VIEW, (beats, grants, ((9, (((0, 1), 5),)),))), False)
         self.assertIs(is_world(VIEW, (beats, (((0, 1),),), ((9, (((0, 1), 5), ((1, 4), 5 + 1))),))), True)
-        for told in ((((1, 2),), ((2, 1),) * 3), (((2, 2),), ((2, 1),) * 2), (((1, 3),), ((1, 1),) * 5), (((1, 2),),)):
+        for told in ((((1, 2),), ((0, 1),) + ((1, 2),) * 5), (((1, 2), (0, 2)), ((1, 2),) * 5), (((1, 0),), ((1, 2),) * 5),
+                     (((1, 2),), ((1, 2),) * 4 + ((1, 0),)), (((1, 2),), ((2, 1),) * 3), (((2, 2),), ((2, 1),) * 2), (((1, 3),), ((1, 1),) * 5), (((1, 2),),)):
             self.assertIs(is_world(VIEW, (told, grants, ((5, ()),))), False)
         self.assertIs(is_world(VIEW, ((((1, 1),), ((2, 1), (1, 2), (2, 2))), grants, ((5, ()),))), True)
 
