@@ -135,6 +135,7 @@ A_BOOK = books.Book({(1, "a"): (5, 9), (2, "a"): (0, 3)})
 KEY = ("a", is_key, errors.InvalidKey, None)
 RULE = ("late", is_rule, errors.InvalidOperation, None)
 QUESTION = (("plus", ("key", "a"), ("number", 1)), is_question, errors.InvalidQuestion, None)
+DEED_OF = ((("a", 5), ("b", None)), is_deed, errors.InvalidDeed, None)
 FLOOR = ((1, 0), is_instant, errors.InvalidInstant, None)
 AN_ORIGIN = origin.Origin(A_SETUP).heard(ASK, 5)
 A_CACHE = cache.Cache(A_SETUP, 1).heard(GRANT, 6)[0]

@@ -4,12 +4,14 @@ import unittest
 
 from helpers import ODD, assert_raises, is_doubled, is_int, mutants
 from lent_calls import LENT_CALLS, LENT_JUDGES, LENT_METHODS, LENT_THINGS
+from run_calls import RUN_CALLS, RUN_JUDGES, RUN_METHODS, RUN_THINGS
 from wholemoment import errors
 from wholemoment.base import texts
 from wholemoment.cache import copies, moments
 from wholemoment.store import deeds, questions
 from wholemoment.time import clocks
 
+OWN_ERRORS = (errors.MomentError, errors.InvalidNumber, errors.UnknownName, errors.NothingToUndo, errors.TooMany, errors.Refused)
 SIDES = {"if": 3}
 for WORD in ("plus", "minus", "times", "least", "most", "less", "same", "both", "any"):
     SIDES[WORD] = 2
@@ -161,12 +163,12 @@ CALLS = (
     (moments.refusal_paper, COPIES, INSTANT, number(1, 0, 10 ** 6), FLOOR),
     (moments.is_refusal_paper, COPIES, INSTANT, number(1, 0, 10 ** 6), FLOOR, ANY),
     (moments.joined_floor, INSTANT, FLOOR), (moments.is_in_stretch, INSTANT, FLOOR, INSTANT),
-) + LENT_CALLS
+) + LENT_CALLS + RUN_CALLS
 JUDGES = (
     texts.is_plain, deeds.is_key, deeds.is_value, deeds.is_pairs, deeds.is_deed, deeds.is_page, questions.is_question,
     questions.is_straight, copies.is_instant,
-) + LENT_JUDGES
-THINGS = (HISTORY, COPY, SHELF) + LENT_THINGS
+) + LENT_JUDGES + RUN_JUDGES
+THINGS = (HISTORY, COPY, SHELF) + LENT_THINGS + RUN_THINGS
 
 
 def wrong_values(parameter):
@@ -221,7 +223,7 @@ class ArgumentsTest(unittest.TestCase):
             for value in values:
                 try:
                     call(*[value for _ in parameters])
-                except (errors.MomentError, errors.InvalidNumber, errors.Refused, errors.TooMany):
+                except OWN_ERRORS:
                     pass
         self.assertEqual(repr(values), before)
 
@@ -266,6 +268,7 @@ class ObjectsTest(unittest.TestCase):
             copies.Copy: ("is_true", "does_cover", "ended", "__eq__", "__str__"),
             copies.Shelf: ("kept", "true_keys", "granted", "ended", "__len__", "__contains__", "__eq__"),
             **LENT_METHODS,
+            **RUN_METHODS,
         }
         for kind, names in told.items():
             for name in names:

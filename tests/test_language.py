@@ -189,6 +189,27 @@ class CodeTest(unittest.TestCase):
                 if isinstance(node, ast.Call) and isinstance(node.func, ast.Attribute):
                     self.assertIn(node.func.attr, METHODS | own, (path, node.lineno))
 
+    def test_no_name_is_a_method_and_an_attribute(self):
+        methods, attributes = set(), set()
+        for tree in trees().values():
+            for node in ast.walk(tree):
+                if isinstance(node, ast.ClassDef):
+                    methods |= {part.name for part in node.body if isinstance(part, ast.FunctionDef)}
+                if isinstance(node, ast.Attribute) and isinstance(node.ctx, ast.Store):
+                    attributes.add(node.attr)
+        self.assertEqual(methods & attributes, set())
+
+    def test_loops_do_not_change_what_they_go_over(self):
+        for path, tree in trees().items():
+            for node in ast.walk(tree):
+                if isinstance(node, ast.For):
+                    told = {ast.unparse(part) for part in ast.walk(node.iter) if isinstance(part, (ast.Name, ast.Attribute))}
+                    for part in ast.walk(ast.Module(node.body, [])):
+                        if isinstance(part, (ast.Name, ast.Attribute)) and isinstance(part.ctx, ast.Store):
+                            self.assertNotIn(ast.unparse(part), told, (path, node.lineno))
+                        if isinstance(part, ast.Subscript) and isinstance(part.ctx, (ast.Store, ast.Del)):
+                            self.assertNotIn(ast.unparse(part.value), told, (path, node.lineno))
+
     def test_sets(self):
         for path, tree in trees().items():
             let = []

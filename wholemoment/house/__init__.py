@@ -1,0 +1,1 @@
+"""The desk at which a system is run."""

@@ -1,0 +1,1 @@
+"""Judges: which rule is needed, and the fewest asks."""

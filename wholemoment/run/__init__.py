@@ -1,0 +1,1 @@
+"""Whole runs: systems, what holds in all of them, and calms."""
