@@ -93,6 +93,15 @@ class CalmTest(unittest.TestCase):
         self.assertEqual((most_rounds(late), quiet_rounds(late, calm(late))), (11 + 2 + 2, 14))
         self.assertEqual(what_waits(late), (("early", 0), ("read", 0), ("write", 0)))
 
+    def test_the_wait_is_told_by_the_clock_of_the_origin(self):
+        for beats in range(5):
+            system = System(Setup(3, (0,), 4, span=9)).run((("read", 0, ASKED, 0), ("hand", 0), ("sync",)) + (("beat", (1, 3)),) * beats)
+            down = system.done(("fall", 0, ()))
+            up = down.done(("rise", 0))
+            self.assertEqual([most_rounds(told) for told in (system, down, up)], [4 + 2 + 2, 13 - beats + 2 + 2, 13 - beats + 2 + 2])
+            late = up.run((("beat", (3, 1)),) * 3)
+            self.assertEqual(most_rounds(late), max(4, 4 - beats) + 2 + 2)
+
     def test_no_letter_from_ahead_is_handed_but_the_deeds(self):
         """[17.7]"""
         for system in drawn_systems(20):

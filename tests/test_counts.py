@@ -108,12 +108,12 @@ class DepthTest(unittest.TestCase):
             for call in ((held_at, spread, 0, 0), (greatest_depth, spread, 0), (least_term, spread, 0, 0)):
                 assert_raises(self, errors.InvalidNumber, ("given", spread), *call)
         for term in (0, 201, True, None, "9"):
-            assert_raises(self, errors.InvalidNumber, ("given", term), held_at, 2, term, 0)
+            assert_raises(self, errors.InvalidNumber, ("given", term), held_at, 2, term, 9)
             assert_raises(self, errors.InvalidNumber, ("given", term), greatest_depth, 2, term)
             assert_raises(self, errors.InvalidNumber, ("given", term), least_term, 2, 1, term)
         for depth in (0, 7, True, None):
             assert_raises(self, errors.InvalidNumber, ("given", depth), held_at, 2, 9, depth)
-            assert_raises(self, errors.InvalidNumber, ("given", depth), least_term, 2, depth, 0)
+            assert_raises(self, errors.InvalidNumber, ("given", depth), least_term, 2, depth, 201)
 
 
 class AsksTest(unittest.TestCase):
@@ -159,6 +159,7 @@ class AsksTest(unittest.TestCase):
         self.assertEqual(asks_of(200, ((0, ("b",)), (200, ("b",)), (201, ("b",)))), ((0, "b"), (201, "b")))
         # [19.6]: with a greater h there can be as many asks.
         self.assertEqual((fewest_asks(3, ((0, ("a",)), (9, ("a",)))), fewest_asks(4, ((0, ("a",)), (9, ("a",))))), (2, 2))
+        self.assertEqual(fewest_asks(3, ((0, tuple("abcdef")),)), 6)
         reads = tuple((at, ("a",)) for at in range(60))
         self.assertEqual((fewest_asks(0, reads), fewest_asks(5, reads)), (60, 10))
         for wrong in (reads + ((60, ("a",)),), ((1, ("a",)), (0, ("a",))), ((0, ()),), ((0, tuple("abcdefg")),), ((0, ("b", "a")),), [(0, ("a",))],
@@ -167,6 +168,9 @@ class AsksTest(unittest.TestCase):
                          lambda held, value: asks_or_marks(held, value, -1), lambda held, value: is_asks_or_marks(held, value, -1, None)):
                 assert_raises(self, errors.InvalidOperation, None, call, 3, wrong)
                 assert_raises(self, errors.InvalidNumber, ("given", 201), call, 201, wrong)
+        for held in (-1, 201, True, None):
+            for call in (asks_of, fewest_asks, lambda held, value: do_cover(held, value, ())):
+                assert_raises(self, errors.InvalidNumber, ("given", held), call, held, READS)
         for number in (-1, 401, True, None, 10 ** 60):
             assert_raises(self, errors.InvalidNumber, ("given", number), asks_or_marks, 3, READS, number)
             assert_raises(self, errors.InvalidNumber, ("given", number), is_asks_or_marks, 3, READS, number, None)

@@ -98,6 +98,14 @@ class ReaderTest(unittest.TestCase):
             self.assertEqual(later.answered(number, (90, 90)), later)
             self.assertEqual(later.heard_done(number, (90, 90)), later)
 
+    def test_wrong_arguments_are_told_also_where_nothing_is_open(self):
+        for reader in (ASKS, Reader(0, 1)):
+            for call in (reader.answered, reader.heard_done):
+                for number in (0, -1, True, None, "1"):
+                    assert_raises(self, errors.InvalidNumber, ("given", number), call, number, None)
+                for instant in (None, 1, (1,), (1, -1), (True, 1), [1, 1]):
+                    assert_raises(self, errors.InvalidInstant, None, call, 1, instant)
+
     def test_dropped(self):
         self.assertEqual(parts(ASKS.dropped())[2:], (1, 1, None, ASKS.open_write, (0, 0)))
         for reader in (Reader(0, 1), ASKS.dropped(), ASKS.answered(1, (0, 0))):

@@ -218,6 +218,10 @@ class TightTest(unittest.TestCase):
                 self.assertTrue(told_tight(thin))
         self.assertGreater(found, 10)
 
+    def test_what_can_be_taken_away_only_behind_other_events(self):
+        for word, seed in (("stamp", 83), ("stamp", 103), ("late", 27)):
+            self.assertTrue(is_tight(tight(some_system(seed, word, 80)[-1])))
+
     def test_runs_near_tight_ones(self):
         rng = random.Random(21)
         for word in ("held", "late", "fence", "ceiling"):

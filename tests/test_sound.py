@@ -1,11 +1,16 @@
 """What holds in every run, stage 16."""
 
+import random
 import unittest
+from unittest import mock
 
 from drawn_runs import SHAPES, some_system
 from helpers import ODD, assert_raises, mutants
 from told_sound import told_faults, told_papers, told_shown
 from wholemoment import errors
+from wholemoment.cache.copies import Copy, Shelf
+from wholemoment.disk.log import read_log
+from wholemoment.lend.books import Book
 from wholemoment.lend.setups import Setup
 from wholemoment.run.sound import fault, is_moment_paper, is_sound, moment_paper, papers_in_sequence, shown
 from wholemoment.run.systems import System
@@ -17,6 +22,95 @@ RUN = START.run((("read", 0, ASKED, 0), ("hand", 0), ("sync",), ("hand", 1)))
 
 def first_of(faults):
     return faults[0] if faults else None
+
+
+def moved(rng, instant):
+    """An instant near another one."""
+    told = (instant[0] + rng.choice((-1, 0, 1)), instant[1] + rng.choice((-1, 0, 1)))
+    return (max(0, told[0]), max(0, told[1]))
+
+
+def tampered(rng, system):
+    """An equal system in which one part was exchanged, None if it has no such part."""
+    other = system.run(())
+    kind = rng.choice((change_answer, change_copy, empty_book, empty_book, empty_book, change_origin, change_floor, change_history))
+    return other if kind(rng, other) else None
+
+
+def change_answer(rng, system):
+    if not system.answers:
+        return False
+    at = rng.randrange(len(system.answers))
+    answer = list(system.answers[at])
+    part = rng.choice((4, 6, 7, 8, 9, 8, 9))
+    answer[part] = moved(rng, answer[part]) if part > 7 else max(0, answer[part] + rng.choice((-1, 1))) if part < 7 else answer[part] + 1
+    system.answers = system.answers[:at] + (tuple(answer),) + system.answers[at + 1:]
+    return True
+
+
+def change_copy(rng, system):
+    numbers = [number for number, cache in system.caches.items() if cache is not None and len(cache.shelf)]
+    if not numbers:
+        return False
+    number = rng.choice(numbers)
+    cache = system.caches[number].looked(10 ** 9)[0]
+    copies = list(system.caches[number].shelf.copies)
+    at = rng.randrange(len(copies))
+    copy = copies[at]
+    begin, gone = rng.choice((copy.begin, moved(rng, copy.begin))), rng.choice((copy.gone, None))
+    if gone is not None or rng.random() < 0.4:
+        gone = gone or begin
+        gone = (max(gone[0], begin[0]) + rng.randrange(2), max(gone[1], begin[1]) + rng.randrange(1, 3))
+    value = rng.choice((copy.value, copy.value, 999))
+    copies[at] = Copy(copy.key, value, begin, max(begin[0], copy.last + rng.randrange(-2, 3)), gone)
+    cache.shelf, cache.turns, cache.book = Shelf(tuple(copies)), system.caches[number].turns, system.caches[number].book
+    system.caches = {**system.caches, number: cache}
+    return True
+
+
+def empty_book(rng, system):
+    number = rng.randrange(len(system.clocks))
+    lender = system.caches[number] if number else system.origin
+    if lender is None:
+        return False
+    twin = lender.looked(10 ** 9)[0] if number else lender.synced()[0]
+    for name in ("shelf", "turns") if number else ("pairs", "numbers", "ceiling"):
+        setattr(twin, name, getattr(lender, name))
+    lent = {place: (asked, end - rng.randrange(4)) for place, (asked, end) in lender.book.lent.items() if rng.random() < 0.5}
+    twin.book = Book({place: entry for place, entry in lent.items() if entry[1] >= 0})
+    if number:
+        system.caches = {**system.caches, number: twin}
+    else:
+        system.origin = twin
+    return True
+
+
+def change_origin(rng, system):
+    if system.origin is None:
+        return False
+    twin = system.origin.synced()[0]
+    part = rng.choice(("pairs", "numbers", "ceiling"))
+    if part == "ceiling":
+        twin.ceiling += 1
+    else:
+        setattr(twin, part, {**getattr(twin, part), **({"zz": 1} if part == "pairs" else {5: 9})})
+    system.origin = twin
+    return True
+
+
+def change_floor(rng, system):
+    at = rng.randrange(len(system.readers))
+    twin = system.readers[at].fallen()
+    twin.open_read, twin.floor = system.readers[at].open_read, moved(rng, system.readers[at].floor)
+    system.readers = system.readers[:at] + (twin,) + system.readers[at + 1:]
+    return True
+
+
+def change_history(rng, system):
+    if not system.deeds:
+        return False
+    system.deeds = system.deeds[:-1] + ((("zz", 1),),)
+    return True
 
 
 def lies(system, index):
@@ -116,6 +210,10 @@ class FaultTest(unittest.TestCase):
             run = System(Setup(1, (0,), 4), without=word).run(early)
             self.assertIsNone(fault(run))
             self.assertEqual(fault(run.done(("rise", 0))), found)
+        # The copy is true up to the reading 4, and so long the origin waits.
+        for beats in range(7):
+            risen = run.run((("rise", 0),) + (("beat", (1, 1)),) * beats)
+            self.assertEqual((risen.caches[1].shelf.true_keys(beats), fault(risen)), (("a",) if beats <= 4 else (), None))
 
     def test_lent_below_a_cache_that_rose(self):
         """A cache that rose waits for T units behind its rising."""
@@ -135,6 +233,50 @@ class FaultTest(unittest.TestCase):
         late = run.done(("sync",))
         self.assertEqual((fault(late), moment_paper(late, 0)), (("answer", 0), ("stood", 6, 1)))
         self.assertEqual(papers_in_sequence(late, 0), (("stood", 6, 1),))
+
+    def test_an_answer_of_an_instant_that_a_beat_passes(self):
+        """The instants that an answer tells can all be such: the time is that ahead of the beat."""
+        run = System(Setup(3, (0,), 12, readers=(1, 1))).run((("read", 0, ASKED, 0), ("hand", 0), ("sync",), ("hand", 1)))
+        run = run.run((("beat", (1, 3)), ("beat", (1, 3)), ("read", 1, ASKED, 2)))
+        self.assertEqual((run.answers[1][8:], shown(run, 1, 5)), (((4, 2), (4, 3)), ((3, 2), (4, 2), (5, 2))))
+        self.assertEqual((fault(run), moment_paper(run, 1), is_moment_paper(run, 1, ("stood", 6, 0))), (None, ("stood", 5, 0), False))
+
+    def test_lows_that_go_back(self):
+        """Lows are compared within a life, of which the floor is asked only if it is the life of now."""
+        asks = (("read", 0, ("number", 1), 0),)
+        run = System(Setup(1, (0,), 4)).run(asks * 3)
+        self.assertEqual([answer[8:] for answer in run.answers], [((0, 0), (0, count)) for count in (1, 2, 3)])
+        for events in ((), (("fall", 1, ()),), (("fall", 1, ()), ("rise", 1)), (("fall", 1, ()), ("rise", 1)) + asks):
+            late = run.run(events)
+            first = late.answers[0][:8] + ((0, 1), (0, 1))
+            late.answers = (first,) + late.answers[1:]
+            self.assertEqual((fault(late), told_faults(late)[:1]), (("floor", 0), [("floor", 0)]))
+            late.answers = late.answers[1:]
+            self.assertEqual((fault(late), told_faults(late)), (None, []))
+
+    def test_a_deed_that_counts_twice(self):
+        """No log is read so [9.2]: here the reading itself is exchanged."""
+        run = System(Setup(1, (0,), 4, readers=(1, 1))).run((("write", 1, DEED), ("hand", 0), ("sync",)))
+        for numbers, found in ((((1, 1),), None), (((1, 1), (1, 2), (0, 1)), None), (((1, 2), (1, 1), (1, 2), (1, 1)), ("once", 1, 1)),
+                               (((1, 1), (0, 3), (1, 1), (0, 3)), ("once", 0, 3))):
+            kept = read_log(run.disk.blocks)
+            kept.records = tuple(("deed", writer, number, DEED) for writer, number in numbers)
+            with mock.patch("wholemoment.run.sound.read_log", lambda blocks: kept):
+                self.assertEqual(fault(run), found)
+
+    def test_systems_that_were_tampered_with(self):
+        """What no run can break is told, too, if it is not so."""
+        rng, words = random.Random(16), {}
+        for seed in range(60):
+            row = some_system(seed, None, 110, SHAPES[:6])
+            for _ in range(20):
+                other = tampered(rng, rng.choice(row[20:]))
+                if other is not None:
+                    found = fault(other)
+                    self.assertEqual(found, first_of(told_faults(other)))
+                    words[found and found[0]] = words.get(found and found[0], 0) + 1
+        self.assertLessEqual({None, "answer", "copy", "lent", "disk", "floor"}, set(words), words)
+        self.assertGreater(min(words.values()), 15, words)
 
     def test_wrong_systems(self):
         for value in ODD:
@@ -223,6 +365,21 @@ class SequenceTest(unittest.TestCase):
         for index, paper in zip(last, papers):
             self.assertIs(is_moment_paper(system, index, paper), True)
         self.assertTrue(all(early[1] <= late[1] for early, late in zip(papers, papers[1:])))
+
+    def test_a_later_paper_is_taken_behind_an_earlier_one(self):
+        """Without "held" the first answer is right only behind the sync: so is then told of the second one, too."""
+        run = System(Setup(1, (0,), 4), without="held")
+        run = run.run((("read", 0, ASKED, 0), ("write", 0, DEED), ("hand", 1), ("hand", 0), ("hand", 3), ("sync",), ("read", 0, ("number", 1), 0)))
+        self.assertEqual((moment_paper(run, 0), moment_paper(run, 1)), (("stood", 6, 1), ("stood", 5, 0)))
+        self.assertEqual(papers_in_sequence(run, 0), (("stood", 6, 1), ("stood", 6, 1)))
+
+    def test_papers_that_cannot_be_put_in_sequence(self):
+        """The second answer is right only ahead of the paper of the first one."""
+        run = System(Setup(1, (0,), 4), without="held")
+        run = run.run((("read", 0, ASKED, 0), ("write", 0, DEED), ("hand", 1), ("hand", 0), ("hand", 3), ("sync",), ("read", 0, ("number", 1), 0)))
+        answer = run.answers[1]
+        run.answers = run.answers[:1] + (answer[:5] + (ASKED, 0, 0) + ((0, 2), (0, 2)),)
+        self.assertEqual((moment_paper(run, 1), papers_in_sequence(run, 0)), (("stood", 5, 0), None))
 
     def test_without_an_answer(self):
         self.assertEqual(papers_in_sequence(START, 0), ())

@@ -27,8 +27,8 @@ def times_showing(rows, life, low, high):
         if row is None or row[0] != life or row[1] > high[0] or row[2] < low[1]:
             continue
         reading, first, count, last = bounds_at(rows, time)
-        does_stand = low[0] <= reading and first <= high[1]
-        does_pass = count <= high[1] and max(low[0], reading + 1) <= min(high[0], last)
+        does_stand = low[0] <= reading and max(low[1], first) <= min(high[1], count)
+        does_pass = max(low[0], reading) <= min(high[0], last) and count <= high[1]
         if does_stand or does_pass:
             found.append(time)
     return found

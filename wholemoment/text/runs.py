@@ -54,7 +54,6 @@ def read_event(line):
 
 def tight(system):
     """Any tight system that lies in a broken one."""
-    need_system(system)
     if fault(system) is None:
         raise Refused(("sound",))
     # Great pieces first: most events of a long run have no part in its fault.
